@@ -1,0 +1,1 @@
+"""Kinddeeds: one name, many deeds by kind."""
