@@ -1,4 +1,4 @@
-"""Kinds that several tests build, and a fitting written the long way to hold the program's against."""
+"""Things that several tests build, and a fitting written the long way to hold the program's against."""
 
 from random import Random
 
@@ -81,3 +81,36 @@ def some_closed_kind(random, depth):
 def chance(seed):
     """The same row of numbers at each run."""
     return Random(seed)
+
+
+class Odd:
+    """A thing that lets nothing be done with it."""
+
+    def fail(self, *args):
+        raise RuntimeError("touched")
+
+    __eq__ = __ne__ = __lt__ = __le__ = __gt__ = __ge__ = fail
+    __hash__ = __len__ = __bool__ = __iter__ = __getitem__ = __contains__ = __repr__ = __str__ = fail
+    __int__ = __index__ = __add__ = __getattr__ = fail
+
+
+class TextOfItsOwn(str):
+    pass
+
+
+def ring_of_lists():
+    ring = []
+    ring.append(ring)
+    return ring
+
+
+def neither_name_nor_kind():
+    """Things of many kinds that are neither; made anew for each test."""
+    ring = ring_of_lists()
+    return [
+        None, True, False, -1, -2, -10 ** 400, 0.0, 1.5, float("nan"), float("inf"), 1j,
+        b"whole", bytearray(b"a"), [], ["a"], [0], {}, {"a": 0}, {0: 1}, set(), {"a"}, frozenset(["a"]),
+        (), ((),), (0,), (None,), (True,), (("a",),), (["a"],), ("a", None), range(3), iter(["a"]),
+        len, int, str, tuple, lambda: 0, object(), ValueError("a"), NotImplemented, ..., Odd(), (Odd(),),
+        ("a", Odd()), ring, ("a", ring), (ring,),
+    ]

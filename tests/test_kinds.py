@@ -3,40 +3,9 @@
 import unittest
 
 from kinddeeds.kinds import is_kind, is_name, opens_of, put, size_of
-from samples import bushy, chain, chance, changed, opens, size, some_kind
-
-
-class Odd:
-    """A thing that lets nothing be done with it."""
-
-    def fail(self, *args):
-        raise RuntimeError("touched")
-
-    __eq__ = __ne__ = __lt__ = __le__ = __gt__ = __ge__ = fail
-    __hash__ = __len__ = __bool__ = __iter__ = __getitem__ = __contains__ = __repr__ = __str__ = fail
-    __int__ = __index__ = __add__ = __getattr__ = fail
-
-
-class TextOfItsOwn(str):
-    pass
-
-
-def ring_of_lists():
-    ring = []
-    ring.append(ring)
-    return ring
-
-
-def neither_name_nor_kind():
-    """Things of many kinds that are neither; made anew for each test."""
-    ring = ring_of_lists()
-    return [
-        None, True, False, -1, -2, -10 ** 400, 0.0, 1.5, float("nan"), float("inf"), 1j,
-        b"whole", bytearray(b"a"), [], ["a"], [0], {}, {"a": 0}, {0: 1}, set(), {"a"}, frozenset(["a"]),
-        (), ((),), (0,), (None,), (True,), (("a",),), (["a"],), ("a", None), range(3), iter(["a"]),
-        len, int, str, tuple, lambda: 0, object(), ValueError("a"), NotImplemented, ..., Odd(), (Odd(),),
-        ("a", Odd()), ring, ("a", ring), (ring,),
-    ]
+from samples import (
+    TextOfItsOwn, bushy, chain, chance, changed, neither_name_nor_kind, opens, size, some_kind,
+)
 
 
 class Names(unittest.TestCase):

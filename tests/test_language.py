@@ -53,6 +53,13 @@ def called(node):
     return node.func.id if isinstance(node, ast.Call) and isinstance(node.func, ast.Name) else None
 
 
+def words_bound(made):
+    """The names that a statement at a file's top binds, but for imports."""
+    if isinstance(made, ast.Assign):
+        return [made.targets[0].id]
+    return [made.name] if isinstance(made, (ast.FunctionDef, ast.ClassDef)) else []
+
+
 class Language(unittest.TestCase):
     def each(self, found, good):
         for name, node in found:
@@ -84,7 +91,7 @@ class Language(unittest.TestCase):
             defined = ast.parse((PACKAGE / (node.module.split(".")[1] + ".py")).read_text()).body
             for alias in node.names:
                 self.assertIsNone(alias.asname)
-                self.assertIn(alias.name, [getattr(made, "name", None) for made in defined])
+                self.assertIn(alias.name, [word for made in defined for word in words_bound(made)])
 
     def test_top_of_a_module(self):
         for name, tree in trees():
@@ -166,6 +173,65 @@ class Language(unittest.TestCase):
                 self.assertFalse(hasattr(python, word), word)
         for name, node in nodes(ast.Attribute):
             self.assertIn(node.attr, METHODS | methods | values, name)
+
+    def test_files_do_not_draw_from_one_another(self):
+        drawn = {name: set() for name, tree in trees()}
+        for name, node in nodes(ast.ImportFrom):
+            drawn[name].add(node.module.split(".")[1] + ".py")
+        while drawn:
+            ends = [name for name in drawn if not drawn[name] & set(drawn)]
+            self.assertTrue(ends, f"a ring among {sorted(drawn)}")
+            drawn = {name: drawn[name] for name in drawn if name not in ends}
+
+    def plain(self, value, outermost):
+        if isinstance(value, ast.Dict):
+            return outermost and all(self.plain(part, False) for part in value.keys + value.values)
+        if isinstance(value, ast.List):
+            return outermost and all(self.plain(part, False) for part in value.elts)
+        if isinstance(value, ast.Tuple):
+            return all(self.plain(part, outermost) for part in value.elts)
+        return isinstance(value, ast.Constant)
+
+    def test_values_of_a_modules_top(self):
+        for name, tree in trees():
+            for node in tree.body:
+                if isinstance(node, ast.Assign):
+                    self.assertTrue(self.plain(node.value, True), (name, node.lineno))
+
+    def test_sets_are_asked_on_the_spot(self):
+        for name, tree in trees():
+            asked = []
+            for node in ast.walk(tree):
+                if called(node) in ("len", "sorted") and not node.keywords:
+                    asked += node.args
+                elif isinstance(node, ast.Compare):
+                    asked += [node.left] + node.comparators
+            for node in ast.walk(tree):
+                if called(node) in ("set", "frozenset") or isinstance(node, ast.Set):
+                    self.assertIn(node, asked, (name, node.lineno))
+
+    def test_exponents_are_written(self):
+        for name, node in nodes(ast.BinOp, ast.AugAssign):
+            if isinstance(node.op, ast.Pow):
+                power = node.right if isinstance(node, ast.BinOp) else node.value
+                self.assertTrue(isinstance(power, ast.Constant) and 0 <= power.value <= 64, (name, node.lineno))
+
+    def test_classes_are_called_or_stand_by_isinstance(self):
+        classes = {node.name for name, node in nodes(ast.ClassDef)}
+        for name, tree in trees():
+            good = []
+            for node in ast.walk(tree):
+                if isinstance(node, ast.Call):
+                    good += [node.func] + (node.args[1:] if called(node) == "isinstance" else [])
+                elif isinstance(node, ast.ClassDef):
+                    good += node.bases
+                elif isinstance(node, ast.ExceptHandler):
+                    good.append(node.type)
+                elif isinstance(node, ast.Attribute) and node.attr == "__init__":
+                    good.append(node.value)
+            for node in ast.walk(tree):
+                if isinstance(node, ast.Name) and node.id in classes:
+                    self.assertIn(node, good, (name, node.lineno))
 
     def test_lazy_ones_are_walked_at_once(self):
         for name, tree in trees():
