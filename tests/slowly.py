@@ -1,9 +1,11 @@
-"""Points 12 to 20 written the long way, to hold the program's answers against: plain recursion, one point after the
-other, with nothing drawn from the program."""
+"""Points 12 to 22 and 24 written the long way, to hold the program's answers against: plain recursion, one point
+after the other, with nothing drawn from the program."""
+
+import sys
 
 from chances import all_nodes, parts_of
 from programs import TRUTH, WHOLE
-from samples import changed, opens, size, slowly_fitted
+from samples import changed, size, slowly_fitted
 
 
 class Refused(Exception):
@@ -318,3 +320,79 @@ class SlowFound:
         self.bodies[number] = body
         if row[0] == "def":
             self.told[row[1]] = told
+
+
+class SlowRun:
+    """[21], [22] and [24] by plain recursion, with closed kinds for the open ones of each body."""
+
+    def __init__(self, slow):
+        self.slow, self.lore, self.steps = slow, slow.lore, 0
+
+    def ask(self, row):
+        """A tuple of the value and the steps, or of the error's name and None."""
+        self.steps = 0
+        limit = sys.getrecursionlimit()
+        sys.setrecursionlimit(100000)
+        try:
+            return (self.value(self.slow.bodies[row], 1, {}, {}), self.steps)
+        except Refused as refusal:
+            return refusal.args
+        finally:
+            sys.setrecursionlimit(limit)
+
+    def value(self, body, number, names, places):
+        node = body.nodes[number]
+        if node[0] == "number":
+            return node[1]
+        if node[0] == "name":
+            return names[node[1]]
+        kids = body.kids[number]
+        if node[0] == "case":
+            looked_at = self.value(body, kids[0], names, places)
+            for arm, kid in zip(node[2], kids[1:]):
+                if arm[0] == looked_at[0]:
+                    return self.value(body, kid, {**names, **dict(zip(arm[1], looked_at[1:]))}, places)
+        args = []
+        for kid in kids:
+            args.append(self.value(body, kid, names, places))
+        if node[0] == "form":
+            if size_of_value((node[1], *args)) > 100:
+                raise Refused("TooGreat", None)
+            return (node[1], *args)
+        if node[1] in ("plus", "minus"):
+            return args[0] + args[1] * (1 if node[1] == "plus" else -1)
+        if node[1] == "under":
+            return ("Yes",) if args[1] > args[0] else ("No",)
+        self.steps += 1
+        if self.steps > 1000:
+            raise Refused("TooLong", None)
+        puts = [changed(kind, places) for kind in body.puts[number]]
+        if node[1] in self.lore.deeds:
+            return self.deed(node[1], puts[0], args)
+        row = [row for row, other in enumerate(self.lore.rows) if other[:2] == ("def", node[1])][0]
+        return self.body(row, args, puts)
+
+    def body(self, row, args, puts):
+        return self.value(self.slow.bodies[row], 1, dict(zip(self.lore.rows[row][-2], args)), dict(enumerate(puts)))
+
+    def deed(self, name, kind, args):
+        row = self.lore.does.get((self.lore.deeds[name][0], kind[0], name))
+        if row is not None:
+            return self.body(row, args, kind[1:])
+        return self.body(self.lore.onces[name], args, [kind])
+
+    def is_of(self, value, kind):
+        """Whether the value is one of a closed kind."""
+        if isinstance(value, int):
+            return kind == WHOLE
+        if value[0] not in self.lore.forms:
+            return False
+        name, parts = self.lore.forms[value[0]]
+        if name != kind[0] or len(parts) != len(value) - 1:
+            return False
+        places = dict(enumerate(kind[1:]))
+        return all(self.is_of(part, changed(told, places)) for part, told in zip(value[1:], parts))
+
+
+def size_of_value(value):
+    return 1 if isinstance(value, int) else 1 + sum(size_of_value(part) for part in value[1:])

@@ -271,7 +271,8 @@ class NeedsOfAsks(Founds):
     def test_a_need_at_an_open_kind(self):
         self.refused_ask(call("last"), errors.Open, 1)
         self.refused_ask(call("same", END, END), errors.Open, 1)
-        self.refused_ask(form("Pair", ONE, call("same", form("Pair", END, ONE), form("Pair", END, ONE))), errors.Open, 3)
+        pair = form("Pair", END, ONE)
+        self.refused_ask(form("Pair", ONE, call("same", pair, pair)), errors.Open, 3)
 
     def test_no_house(self):
         self.refused_ask(call("same", UNIT, UNIT), errors.NoHouse, 1)
@@ -460,7 +461,8 @@ class NeedsOfDoesRows(Founds):
 
     def test_calls_of_defs(self):
         rows = self.of_parts(self.ORDER, call("f", ("name", "a"), ("name", "c")))
-        rows.append(("def", "f", ("x", "y"), case(call("same", Y, Y), ("No", (), call("below", X, X)), ("Yes", (), NO))))
+        body = case(call("same", Y, Y), ("No", (), call("below", X, X)), ("Yes", (), NO))
+        rows.append(("def", "f", ("x", "y"), body))
         found = Found(rows)
         self.assertEqual(found.told("f"), ((0, 1), TRUTH, (("order", 0), ("like", 1))))
         self.calls(found, self.ORDER, 5, {3: ((0, 2), (given(0), elder("like", given(2))))})

@@ -117,8 +117,8 @@ class OfNodes(Pairs):
             self.pairs(("def", "g", (), expression), pairs, {"f": told}, ahead)
 
     def test_a_def_without_params(self):
-        self.pairs(("ask", call("f")), [(1, 1, paired(100, paired(101, 100)))], {"f": ((), paired(0, paired(1, 0)), ())},
-                   [("def", "f", (), ONE)])
+        told = {"f": ((), paired(0, paired(1, 0)), ())}
+        self.pairs(("ask", call("f")), [(1, 1, paired(100, paired(101, 100)))], told, [("def", "f", (), ONE)])
 
     def test_cases(self):
         self.asked(case(form("Link", ONE, END), ("End", (), ONE), ("Link", ("x", "y"), X)), [
@@ -131,7 +131,9 @@ class OfNodes(Pairs):
         self.asked(case(NO, ("Yes", (), ONE), ("No", (), NO)), [
             (2, 2, TRUTH), (2, 2, TRUTH), (3, 3, WHOLE), (3, 3, 1), (4, 4, TRUTH), (4, 4, 1),
         ])
-        self.asked(case(form("Unit"), ("Unit", (), ONE)), [(2, 2, ("unit",)), (2, 2, ("unit",)), (3, 3, WHOLE), (3, 3, 1)])
+        self.asked(case(form("Unit"), ("Unit", (), ONE)), [
+            (2, 2, ("unit",)), (2, 2, ("unit",)), (3, 3, WHOLE), (3, 3, 1),
+        ])
 
     def test_a_case_of_three_parts_and_of_four_arms(self):
         self.asked(case(form("Void"), ("Solo", ("x",), X), ("Trio", ("z", "x", "y"), X), ("Void", (), ONE)), [
@@ -296,7 +298,8 @@ class NoSuch(Refusals):
         self.assertPlace([("def", "f", (), ONE), ("def", "g", (), call("h")), ("def", "h", (), call("f"))], (1, 1))
 
     def test_a_kind_or_a_class_of_a_defs_name_is_no_def(self):
-        rows = [("kind", "f", 0, (("One", ()),)), ("class", "f", ()), ("def", "g", (), call("f")), ("def", "f", (), ONE)]
+        rows = [("kind", "f", 0, (("One", ()),)), ("class", "f", ()), ("def", "g", (), call("f")),
+                ("def", "f", (), ONE)]
         self.assertPlace(rows, (2, 1))
         with self.assertRaises(errors.NoSuch):
             pairs_of(Lore(rows), {"f": ((), WHOLE, ())}, 2)

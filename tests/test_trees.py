@@ -206,7 +206,8 @@ class ByGivenOnes(Trees):
         self.assertEqual(tree_by(lore, [("c", 0)], "end", 0), elder("end", given(0)))
 
     def test_an_elder_that_does_not_lead_there_is_passed_by(self):
-        lore = Lore([("class", "end", ()), ("class", "a", ()), ("class", "b", ("a", "end")), ("class", "c", ("a", "b"))])
+        lore = Lore([("class", "end", ()), ("class", "a", ()), ("class", "b", ("a", "end")),
+                     ("class", "c", ("a", "b"))])
         self.assertEqual(tree_by(lore, [("c", 0)], "end", 0), elder("end", elder("b", given(0))))
 
     def test_the_first_given_one_that_serves_counts(self):
@@ -272,7 +273,8 @@ class ByGivenOnes(Trees):
 
 
 def some_given(random, maker):
-    return [random.choice([None, (maker.some(maker.elders), random.randrange(3))]) for need in range(random.randrange(6))]
+    return [random.choice([None, (maker.some(maker.elders), random.randrange(3))])
+            for need in range(random.randrange(6))]
 
 
 class OfElders(Trees):

@@ -1,16 +1,24 @@
 """Point 3 over whole programs, most of them made by chance with fixed seeds."""
 
 import itertools
+import subprocess
+import sys
+import tempfile
 import unittest
+from pathlib import Path
 
 from chances import matched, some_program
 from kinddeeds import errors
 from kinddeeds.found import Found
+from kinddeeds.making import made
+from kinddeeds.notes import answers, show, show_value
 from kinddeeds.pairs import pairs_of
+from kinddeeds.reader import read_expression
+from kinddeeds.runs import ByKinds, ByTables
 from kinddeeds.trees import closed, tree_of
 from programs import NO, ONE, WHOLE, X, call, case, form
 from samples import chance, changed, slowly_fitted
-from slowly import SlowFound
+from slowly import SlowFound, SlowRun
 
 
 def fault_of(rows):
@@ -129,6 +137,82 @@ class TreesStandForTheOneTree(unittest.TestCase):
                             self.assertEqual(closed(lore, tree, ends[1]), tree_of(lore, cls, kind))
                             told += "given" in repr(tree)
         self.assertGreater(told, 300)
+
+
+def outcome(run, number):
+    """What the ask comes to, or the error's name and its place."""
+    try:
+        return run.asked(number)
+    except errors.DeedsError as error:
+        return (type(error).__name__, error.place)
+
+
+class BothRuns(unittest.TestCase):
+    def test_the_same_value_in_the_same_number_of_steps_or_refused_alike(self):
+        seen = {}
+        for random, found, slow in good_programs(37, 700):
+            by_kinds, by_tables, slowly = ByKinds(found), ByTables(made(found)), SlowRun(slow)
+            asks = [row for row, body in slow.bodies.items() if body.body[0] == "ask"]
+            for number, row in enumerate(asks):
+                told = outcome(by_kinds, number)
+                self.assertEqual(outcome(by_tables, number), told)
+                self.assertEqual(slowly.ask(row), told)
+                if isinstance(told[0], str):
+                    seen[told[0]] = seen.get(told[0], 0) + 1
+                else:
+                    self.assertTrue(slowly.is_of(told[0], found.kind_at(row, 1)))
+                    seen[told[1]] = seen.get(told[1], 0) + 1
+        for sort in ["TooLong", 0, 1, 2, 3, 4, 5]:
+            self.assertGreater(seen[sort], 5, seen)
+
+    def test_text_to_answer_and_back(self):
+        for random, found, slow in good_programs(38, 100):
+            rows = found.lore().rows()
+            run = ByTables(made(found))
+            told = [outcome(run, number) for number in range(sum(row[0] == "ask" for row in rows))]
+            if any(isinstance(value, str) for value, steps in told):
+                with self.assertRaises(errors.DeedsError):
+                    answers(show(rows))
+                continue
+            texts = answers(show(rows))
+            self.assertEqual(texts, [show_value(value) for value, steps in told])
+            again = [row for row in rows if row[0] != "ask"] + [("ask", read_expression(text)) for text in texts]
+            self.assertEqual(answers(show(again)), texts)
+
+
+class NothingElseCounts(unittest.TestCase):
+    """[1]: the same in each run of Python, whatever the order of its sets and the folder it is started in."""
+
+    CODE = """
+import sys
+sys.path[:0] = sys.argv[1:]
+from chances import some_program
+from kinddeeds.errors import DeedsError
+from kinddeeds.found import Found
+from kinddeeds.making import made
+from kinddeeds.notes import answers, show
+from samples import chance
+random = chance(39)
+for step in range(60):
+    rows = some_program(random, step % 2)
+    try:
+        print(made(Found(rows)), answers(show(rows)))
+    except DeedsError as error:
+        print(type(error), error.place)
+"""
+
+    def test_in_several_runs_of_python(self):
+        told = set()
+        tests = Path(__file__).resolve().parent
+        for seed in ["0", "1", "7"]:
+            with tempfile.TemporaryDirectory() as folder:
+                done = subprocess.run(
+                    [sys.executable, "-c", self.CODE, str(tests), str(tests.parent)], cwd=folder, check=True, text=True,
+                    capture_output=True, env={"PYTHONHASHSEED": seed, "PYTHONDONTWRITEBYTECODE": "1"})
+                self.assertEqual(list(Path(folder).iterdir()), [])
+            told.add(done.stdout)
+        self.assertEqual(len(told), 1)
+        self.assertGreater(len(told.pop()), 1000)
 
 
 class TheFirstFault(unittest.TestCase):
