@@ -146,7 +146,8 @@ class Expressions(Words):
 
     def test_brackets_left_open_or_closed_without_end(self):
         for text in ["f(" * 10000, "[" * 20000, "]" * 20000, "F(" * 6000 + ")" * 6000 + ")", "[x: A() " * 2000,
-                     "-" * 20000, "f(x, " * 4000, "[f(" * 6000, ")" * 20000, "x" * 20000, "F" * 20000, " " * 20000, "f()" * 6000]:
+                     "-" * 20000, "f(x, " * 4000, "[f(" * 6000, ")" * 20000, "x" * 20000, "F" * 20000, " " * 20000,
+                     "f()" * 6000]:
             self.refused(read_expression, text)
 
 
